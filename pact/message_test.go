@@ -511,15 +511,7 @@ func TestMessagesAtAnything(t *testing.T) {
 	refused(t, "very many entries", api.Message{Kind: api.Promise, Group: "s0", List: make([]api.Entry, 1<<20)})
 }
 
-func TestNilTellsNothing(t *testing.T) {
-	var l *pact.Locks
-	if a, w, g := l.Take(1, 0, true); a != 0 || len(w) != 0 || len(g) != 0 {
-		t.Errorf("P1: Take on nil: %d, %v, %v", a, w, g)
-	}
-	l.Hold(1)
-	if g, w := l.Free(1), l.Waits(); len(g) != 0 || len(w) != 0 {
-		t.Errorf("P1: Free and Waits on nil: %v, %v", g, w)
-	}
+func TestNilClusterTellsNothing(t *testing.T) {
 	var c *pact.Cluster
 	c.Do(api.Step{Kind: api.Round})
 	if len(c.Bag()) != 0 || len(c.History()) != 0 || len(c.Decided()) != 0 || len(c.Outcomes(0)) != 0 {
