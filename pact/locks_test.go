@@ -292,7 +292,7 @@ func (p *plain) goThrough() []api.Grant {
 	return got
 }
 
-func (p *plain) take(tx, key int, write bool) (int, []int, []api.Grant) {
+func (p *plain) Take(tx, key int, write bool) (int, []int, []api.Grant) {
 	how := 1
 	if write {
 		how = 2
@@ -320,13 +320,13 @@ func (p *plain) take(tx, key int, write bool) (int, []int, []api.Grant) {
 	return api.Granted, wounded, slices.DeleteFunc(got, func(g api.Grant) bool { return g.Tx == tx })
 }
 
-func (p *plain) hold(tx int) {
+func (p *plain) Hold(tx int) {
 	if tx >= 1 && tx <= api.MaxOwner && p.wants[tx] == 0 {
 		p.prepared[tx] = true
 	}
 }
 
-func (p *plain) free(tx int) []api.Grant {
+func (p *plain) Free(tx int) []api.Grant {
 	if tx < 1 || tx > api.MaxOwner {
 		return nil
 	}
@@ -334,7 +334,7 @@ func (p *plain) free(tx int) []api.Grant {
 	return p.goThrough()
 }
 
-func (p *plain) waits() []api.Wait {
+func (p *plain) Waits() []api.Wait {
 	var list []api.Wait
 	for tx := 1; tx <= api.MaxOwner; tx++ {
 		if p.wants[tx] == 0 {
@@ -345,6 +345,13 @@ func (p *plain) waits() []api.Wait {
 		}
 	}
 	return list
+}
+
+// table is what a table and the plain one have in common.
+type table interface {
+	Take(tx, key int, write bool) (int, []int, []api.Grant)
+	Hold(tx int)
+	Free(tx int) []api.Grant
 }
 
 // drawn is one call that is drawn by lot.
@@ -365,7 +372,7 @@ func (d *draw) call(txs, keys int) drawn {
 }
 
 // on does the call on a table and tells what it answers.
-func (c drawn) on(l *pact.Locks) string {
+func (c drawn) on(l table) string {
 	switch c.call {
 	case 0, 1:
 		return fmt.Sprint(l.Free(c.tx))
@@ -378,19 +385,6 @@ func (c drawn) on(l *pact.Locks) string {
 	}
 }
 
-func (c drawn) onPlain(p *plain) string {
-	switch c.call {
-	case 0, 1:
-		return fmt.Sprint(p.free(c.tx))
-	case 2:
-		p.hold(c.tx)
-		return ""
-	default:
-		a, w, g := p.take(c.tx, c.key, c.write)
-		return fmt.Sprint(a, w, g)
-	}
-}
-
 func TestLocksAgainstAPlainTable(t *testing.T) {
 	d := draw(7)
 	for range 120 {
@@ -398,10 +392,10 @@ func TestLocksAgainstAPlainTable(t *testing.T) {
 		l, p := pact.NewLocks(most), &plain{most: most}
 		for range 60 {
 			c := d.call(txs, keys)
-			if got, want := c.on(l), c.onPlain(p); got != want {
+			if got, want := c.on(l), c.on(p); got != want {
 				t.Fatalf("P6 to P8: a table for %d, %+v: %s, want %s", most, c, got, want)
 			}
-			if got, want := fmt.Sprint(l.Waits()), fmt.Sprint(p.waits()); got != want {
+			if got, want := fmt.Sprint(l.Waits()), fmt.Sprint(p.Waits()); got != want {
 				t.Fatalf("P9: a table for %d, behind %+v: %s, want %s", most, c, got, want)
 			}
 		}
@@ -441,7 +435,7 @@ func TestWhoWaitsWaitsForOlderOrPreparedOnes(t *testing.T) {
 				continue
 			}
 			c.on(l)
-			c.onPlain(p)
+			c.on(p)
 			list := l.Waits()
 			for _, w := range list {
 				if w.For > w.Tx && !p.prepared[w.For] {
