@@ -511,17 +511,6 @@ func TestMessagesAtAnything(t *testing.T) {
 	refused(t, "very many entries", api.Message{Kind: api.Promise, Group: "s0", List: make([]api.Entry, 1<<20)})
 }
 
-func TestNilClusterTellsNothing(t *testing.T) {
-	var c *pact.Cluster
-	c.Do(api.Step{Kind: api.Round})
-	if len(c.Bag()) != 0 || len(c.History()) != 0 || len(c.Decided()) != 0 || len(c.Outcomes(0)) != 0 {
-		t.Errorf("P1: a nil cluster tells something")
-	}
-	if len(c.Applied(0)) != 0 || len(c.Held(0)) != 0 || c.State(0) != "" || c.Stored(0) != "" {
-		t.Errorf("P1: a nil cluster tells something of a node")
-	}
-}
-
 func TestMessagesAnswerTheSame(t *testing.T) {
 	list := samples()
 	want := make([]string, len(list))

@@ -81,39 +81,3 @@ func grants(list []lock.Grant[int]) []api.Grant {
 	}
 	return told
 }
-
-// Cluster is all nodes, and the net between them.
-type Cluster struct{}
-
-// New makes a cluster (P10).
-func New(c api.Config) (*Cluster, api.Errno) { return nil, api.OK }
-
-// Do does a step of a script (P11 to P16).
-func (x *Cluster) Do(s api.Step) {}
-
-// Bag tells the packets that are on their way.
-func (x *Cluster) Bag() []string { return nil }
-
-// History tells the calls of the clients and their answers.
-func (x *Cluster) History() []api.Event { return nil }
-
-// Decided tells what was decided, in order (P20).
-func (x *Cluster) Decided() []api.Decision { return nil }
-
-// Outcomes tells what a node knows of transactions, by their numbers (P19).
-func (x *Cluster) Outcomes(node int) []api.Decision { return nil }
-
-// Applied tells what a server has applied of its shard's log, in order (P18).
-func (x *Cluster) Applied(node int) []string { return nil }
-
-// Held tells the transactions that hold or await locks at a server (P22).
-func (x *Cluster) Held(node int) []int { return nil }
-
-// Stored tells what a node has stored, as a text (P24).
-func (x *Cluster) Stored(node int) string { return "" }
-
-// Reopen makes a cluster of what its nodes have stored (P24).
-func Reopen(c api.Config, stored []string) (*Cluster, api.Errno) { return nil, api.OK }
-
-// State tells all that a node knows, as a text (P12).
-func (x *Cluster) State(node int) string { return "" }
