@@ -2,8 +2,6 @@
 package acceptor
 
 import (
-	"strings"
-
 	"pact/api"
 	"pact/keep"
 	"pact/plan"
@@ -75,7 +73,7 @@ func (a *Acceptor) answer(m api.Message, send func(api.Message)) {
 		reply.Kind = api.Accepted
 		reply.Slot, reply.Value = m.Slot, m.Value
 	}
-	if reply.Kind == api.Accepted && isVote(m.Group) {
+	if reply.Kind == api.Accepted && plan.IsVote(m.Group) {
 		a.sendToServers(reply, send)
 		return
 	}
@@ -88,8 +86,6 @@ func (a *Acceptor) sendToServers(m api.Message, send func(api.Message)) {
 		send(m)
 	}
 }
-
-func isVote(name string) bool { return strings.HasPrefix(name, "v") }
 
 // entries tells what is accepted in a group, by slot.
 func entries(g group) []api.Entry {

@@ -17,6 +17,12 @@ type Table[K cmp.Ordered, V any] struct {
 	rows []row[K, V] // by rising keys: so what a table tells hangs on what it keeps alone
 }
 
+// Has says whether something is kept for a key.
+func (t *Table[K, V]) Has(key K) bool {
+	_, is := t.find(key)
+	return is
+}
+
 // Get tells what is kept for a key; a zero value, if nothing is.
 func (t *Table[K, V]) Get(key K) V {
 	if at, is := t.find(key); is {
@@ -33,6 +39,22 @@ func (t *Table[K, V]) At(key K) *V {
 		t.rows = slices.Insert(t.rows, at, row[K, V]{key: key})
 	}
 	return &t.rows[at].thing
+}
+
+// Drop forgets what is kept for a key.
+func (t *Table[K, V]) Drop(key K) {
+	if at, is := t.find(key); is {
+		t.rows = slices.Delete(t.rows, at, at+1)
+	}
+}
+
+// Keys tells the keys, rising: a list of its own, so that rows may come and go while it is gone through.
+func (t *Table[K, V]) Keys() []K {
+	var keys []K
+	for _, r := range t.rows {
+		keys = append(keys, r.key)
+	}
+	return keys
 }
 
 // All goes through the keys and things, by rising keys.

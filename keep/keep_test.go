@@ -59,3 +59,20 @@ func TestGet(t *testing.T) {
 		t.Errorf("looking has made %d rows of 1", n)
 	}
 }
+
+func TestDrop(t *testing.T) {
+	var table Table[string, int]
+	for i, k := range []string{"b", "a", "c"} {
+		*table.At(k) = i
+	}
+	table.Drop("x")
+	keys := table.Keys()
+	for range keys { // rows may go while the keys are gone through
+		table.Drop("a")
+	}
+	same(t, keys, []string{"a", "b", "c"})
+	same(t, table.Keys(), []string{"b", "c"})
+	if table.Has("a") || !table.Has("b") || table.Get("a") != 0 || table.Get("c") != 2 {
+		t.Errorf("behind Drop there is %v", table.rows)
+	}
+}

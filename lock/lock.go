@@ -47,7 +47,7 @@ func New[K comparable](most int) Table[K] {
 func (t *Table[K]) Take(tx int, key K, write bool) (int, []int, []Grant[K]) {
 	ask := claim[K]{tx, key, write}
 	switch {
-	case t.waiting(tx):
+	case t.Awaits(tx):
 		return 0, nil, nil
 	case t.has(ask):
 		return api.Granted, nil, nil
@@ -57,7 +57,7 @@ func (t *Table[K]) Take(tx int, key K, write bool) (int, []int, []Grant[K]) {
 	wounded := t.wound(ask)
 	t.await(ask)
 	got := t.passOn()
-	if t.waiting(tx) {
+	if t.Awaits(tx) {
 		return api.Waiting, wounded, got
 	}
 	own := func(g Grant[K]) bool { return g.Tx == tx }
@@ -67,7 +67,7 @@ func (t *Table[K]) Take(tx int, key K, write bool) (int, []int, []Grant[K]) {
 // Hold makes a transaction prepared, if it does not wait.
 func (t *Table[K]) Hold(tx int) {
 	at, is := slices.BinarySearch(t.prepared, tx)
-	if !is && !t.waiting(tx) {
+	if !is && !t.Awaits(tx) {
 		t.prepared = slices.Insert(t.prepared, at, tx)
 	}
 }
@@ -81,6 +81,16 @@ func (t *Table[K]) Free(tx int) []Grant[K] {
 	return t.passOn()
 }
 
+// Owners tells the transactions that hold or await a lock, rising.
+func (t *Table[K]) Owners() []int {
+	var list []int
+	for _, c := range slices.Concat(t.held, t.waits) {
+		list = append(list, c.tx)
+	}
+	slices.Sort(list)
+	return slices.Compact(list)
+}
+
 // Waits tells who waits for whom, by the first and then by the second.
 func (t *Table[K]) Waits() []api.Wait {
 	var pairs []api.Wait
@@ -92,7 +102,8 @@ func (t *Table[K]) Waits() []api.Wait {
 	return pairs
 }
 
-func (t *Table[K]) waiting(tx int) bool {
+// Awaits says whether a transaction waits for a lock.
+func (t *Table[K]) Awaits(tx int) bool {
 	return slices.ContainsFunc(t.waits, func(w claim[K]) bool { return w.tx == tx })
 }
 

@@ -55,3 +55,21 @@ func TestNothingIsLeft(t *testing.T) {
 		t.Errorf("P8: when all are freed, there is left: %v, %v, %v", l.held, l.waits, l.prepared)
 	}
 }
+
+func TestOwners(t *testing.T) {
+	l := New[string](8)
+	if got := l.Owners(); len(got) != 0 {
+		t.Errorf("P5: a new table has the owners %v", got)
+	}
+	l.Take(9, "y", true)
+	l.Take(5, "x", true)
+	l.Take(5, "z", true)
+	l.Take(7, "x", false)
+	if got := fmt.Sprint(l.Owners(), l.Awaits(5), l.Awaits(7), l.Awaits(9)); got != "[5 7 9] false true false" {
+		t.Errorf("P18: %s hold or await locks", got)
+	}
+	l.Free(5)
+	if got := fmt.Sprint(l.Owners(), l.Awaits(7)); got != "[7 9] false" {
+		t.Errorf("P18: %s hold or await locks", got)
+	}
+}

@@ -1,6 +1,8 @@
 package pact
 
 import (
+	"slices"
+
 	"pact/api"
 	"pact/bag"
 	"pact/plan"
@@ -11,6 +13,9 @@ type Cluster struct {
 	config api.Config
 	nodes  []node
 	bag    bag.Bag
+
+	history []api.Event
+	decided []api.Decision
 }
 
 // New makes a cluster (P10).
@@ -48,6 +53,8 @@ func (x *Cluster) Do(s api.Step) {
 		return
 	}
 	switch s.Kind {
+	case api.Begin, api.Get, api.Put, api.Commit, api.Abort:
+		x.call(s)
 	case api.Deliver:
 		x.deliver(s.A)
 	case api.Drop:
@@ -80,19 +87,44 @@ func (x *Cluster) Bag() []string {
 }
 
 // History tells the calls of the clients and their answers.
-func (x *Cluster) History() []api.Event { return nil }
+func (x *Cluster) History() []api.Event {
+	if x == nil {
+		return nil
+	}
+	return slices.Clone(x.history)
+}
 
 // Decided tells what was decided, in order (P20).
-func (x *Cluster) Decided() []api.Decision { return nil }
+func (x *Cluster) Decided() []api.Decision {
+	if x == nil {
+		return nil
+	}
+	return slices.Clone(x.decided)
+}
 
 // Outcomes tells what a node knows of transactions, by their numbers (P19).
-func (x *Cluster) Outcomes(node int) []api.Decision { return nil }
+func (x *Cluster) Outcomes(node int) []api.Decision {
+	if !x.has(node) {
+		return nil
+	}
+	return outcomes(x.nodes[node].machine)
+}
 
 // Applied tells what a server has applied of its shard's log, in order (P18).
-func (x *Cluster) Applied(node int) []string { return nil }
+func (x *Cluster) Applied(node int) []string {
+	if !x.has(node) {
+		return nil
+	}
+	return applied(x.nodes[node].machine)
+}
 
 // Held tells the transactions that hold or await locks at a server (P22).
-func (x *Cluster) Held(node int) []int { return nil }
+func (x *Cluster) Held(node int) []int {
+	if !x.has(node) {
+		return nil
+	}
+	return held(x.nodes[node].machine)
+}
 
 // Stored tells what a node has stored, as a text (P24).
 func (x *Cluster) Stored(node int) string {

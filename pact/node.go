@@ -18,6 +18,45 @@ type machine interface {
 	Load(text string)
 }
 
+// finder is a machine that finds outcomes: a server or client.
+type finder interface {
+	Outcomes() []api.Decision
+	PullFound() []api.Decision
+}
+
+// caller is a machine that makes calls: a client.
+type caller interface {
+	Do(s api.Step, send func(api.Message))
+	PullEvents() []api.Event
+}
+
+// applier is a machine that applies a log: a server.
+type applier interface {
+	Applied() []string
+	Held() []int
+}
+
+func outcomes(m machine) []api.Decision {
+	if f, ok := m.(finder); ok {
+		return f.Outcomes()
+	}
+	return nil
+}
+
+func applied(m machine) []string {
+	if a, ok := m.(applier); ok {
+		return a.Applied()
+	}
+	return nil
+}
+
+func held(m machine) []int {
+	if a, ok := m.(applier); ok {
+		return a.Held()
+	}
+	return nil
+}
+
 // node is a node of a cluster.
 type node struct {
 	machine machine // while the node is down, what it begins again as
@@ -30,9 +69,9 @@ func fresh(c api.Config, number int) machine {
 	case number < plan.FirstServer(c):
 		return acceptor.New(c, number)
 	case number < plan.FirstClient(c):
-		return server.New()
+		return server.New(c, number)
 	}
-	return client.New()
+	return client.New(c, number)
 }
 
 // loaded makes the machine of a node that has that text stored. A text that no such node tells makes it panic with a record.Fault.

@@ -1,6 +1,7 @@
 package pact
 
 import (
+	"slices"
 	"sync"
 
 	"pact/api"
@@ -10,6 +11,39 @@ import (
 // take lets a node that is up deal with a message; what it sends is in the bag then.
 func (x *Cluster) take(m api.Message) {
 	x.nodes[m.To].machine.Take(m, sender(x.bag.Send))
+	x.gather(m.To)
+}
+
+// call lets a client do its step.
+func (x *Cluster) call(s api.Step) {
+	if s.A < 0 || s.A >= x.config.Clients {
+		return
+	}
+	number := plan.FirstClient(x.config) + s.A
+	if c, ok := x.nodes[number].machine.(caller); ok {
+		c.Do(s, sender(x.bag.Send))
+	}
+	x.gather(number)
+}
+
+// gather notes what a node has found and what it was answered. It must be done whenever a node has done something, and ahead of its crash: so both stand in the order in which they came about.
+func (x *Cluster) gather(number int) {
+	m := x.nodes[number].machine
+	if c, ok := m.(caller); ok {
+		x.history = append(x.history, c.PullEvents()...)
+	}
+	if f, ok := m.(finder); ok {
+		for _, d := range f.PullFound() {
+			x.decide(d)
+		}
+	}
+}
+
+// decide notes an outcome that a node has found, if no other one has before.
+func (x *Cluster) decide(d api.Decision) {
+	if !slices.ContainsFunc(x.decided, func(was api.Decision) bool { return was.Tx == d.Tx }) {
+		x.decided = append(x.decided, d)
+	}
 }
 
 func (x *Cluster) isUp(number int) bool {
@@ -47,6 +81,7 @@ func (x *Cluster) inject(number int, bytes string) {
 func (x *Cluster) tick(number int) {
 	if x.isUp(number) {
 		x.nodes[number].machine.Tick(sender(x.bag.Send))
+		x.gather(number)
 	}
 }
 
@@ -76,6 +111,7 @@ func (x *Cluster) breakAt(at int, behind bool) {
 	}
 	if behind {
 		x.nodes[m.To].machine.Take(m, func(api.Message) {})
+		x.gather(m.To)
 	}
 	x.crash(m.To)
 }
@@ -93,10 +129,11 @@ func (x *Cluster) round() {
 		}()
 	}
 	all.Wait()
-	for _, packets := range sent {
+	for number, packets := range sent {
 		for _, packet := range packets {
 			x.bag.Send(packet)
 		}
+		x.gather(number)
 	}
 }
 

@@ -14,8 +14,32 @@ type Writer struct {
 // Number adds a number.
 func (w *Writer) Number(n int) { w.add(strconv.Itoa(n)) }
 
+// Numbers adds numbers.
+func (w *Writer) Numbers(list ...int) {
+	for _, n := range list {
+		w.Number(n)
+	}
+}
+
+// Flag adds a yes or no, as 1 or 0.
+func (w *Writer) Flag(yes bool) {
+	n := 0
+	if yes {
+		n = 1
+	}
+	w.Number(n)
+}
+
 // Text adds a text of any bytes.
 func (w *Writer) Text(s string) { w.add(strconv.Quote(s)) }
+
+// Texts adds how many texts there are, and these.
+func (w *Writer) Texts(list []string) {
+	w.Number(len(list))
+	for _, s := range list {
+		w.Text(s)
+	}
+}
 
 // String is the record so far.
 func (w *Writer) String() string { return w.text.String() }

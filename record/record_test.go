@@ -74,3 +74,16 @@ func TestReaderGivesUpByItsOwnError(t *testing.T) {
 		}
 	}
 }
+
+func TestLists(t *testing.T) {
+	var w Writer
+	w.Numbers()
+	w.Numbers(3, 4)
+	w.Flag(true)
+	w.Flag(false)
+	w.Texts(nil)
+	w.Texts([]string{"a b", ""})
+	if got, want := w.String(), `3 4 1 0 0 2 "a b" ""`; got != want {
+		t.Errorf("P24: the record is %s, want %s", got, want)
+	}
+}
