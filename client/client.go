@@ -50,7 +50,7 @@ func (c *Client) Do(s api.Step, send func(api.Message)) {
 	switch {
 	case s.Kind == api.Begin:
 		t.begin()
-	case c.tx == 0 || c.call.Op != 0:
+	case c.tx == 0 || c.call.Op != 0: // all others need a transaction, and no call
 	case s.Kind == api.Get && talk.IsKey(s.B):
 		t.ask(api.Get, s.B, 0)
 	case s.Kind == api.Put && talk.IsKey(s.B) && talk.IsWord(s.C):

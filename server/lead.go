@@ -26,7 +26,7 @@ func (s *Server) nextBallot(above int) (int, bool) {
 	return round*ballotStep + s.self, true
 }
 
-// patience is how many ticks without one that leads the server bears. Who stands leads three ticks later, and beats every other tick; so the first server of a shard does not stand against one that leads, and the second one not against the first.
+// patience is how many ticks without one that leads the server bears. Three ticks behind standing a leader's first beat is there, and then every other tick one comes; so who has stood has time to lead before the other one stands against it.
 func (s *Server) patience() int {
 	if s.self < s.other {
 		return 5
@@ -83,8 +83,7 @@ func (t turn) lead() {
 	t.role, t.heard = leading, len(t.log)
 	t.beat()
 	for _, tx := range t.shard.Open() {
-		t.seek(tx, t.shard.Shards(tx))
-		t.castVote(tx)
+		t.pursue(tx)
 	}
 	if again {
 		t.propose(open)

@@ -84,9 +84,8 @@ func (t turn) apply(value string) {
 	for _, tx := range news.Answered {
 		t.tellAnswer(tx)
 	}
-	if news.Prepared != 0 && !t.outcomes.Has(news.Prepared) {
-		t.seek(news.Prepared, t.shard.Shards(news.Prepared))
-		t.castVote(news.Prepared)
+	if news.Prepared != 0 {
+		t.pursue(news.Prepared)
 	}
 }
 

@@ -28,8 +28,9 @@ type attempt struct {
 	any    bool      // whether they show something
 }
 
+// seek begins to seek the outcome of a transaction.
 func (s *Server) seek(tx, shards int) {
-	if !s.outcomes.Has(tx) && !s.seeks.Has(tx) {
+	if !s.seeks.Has(tx) {
 		*s.seeks.At(tx) = seek{shards: shards}
 	}
 }
@@ -54,14 +55,20 @@ func (t turn) seekOn() {
 // tryVote asks the acceptors for a promise of a new ballot for a vote.
 func (t turn) tryVote(tx, number int) {
 	group := plan.VoteGroup(tx, number)
-	was := t.rescues.Get(group)
-	t.promises.Drop(was.ballot)
-	ballot, is := t.nextBallot(was.seen)
+	seen := t.rescues.Get(group).seen
+	ballot, is := t.nextBallot(seen)
 	if !is {
 		return
 	}
+	t.leave(group)
 	*t.rescues.At(group) = attempt{ballot: ballot, seen: ballot}
 	t.toAcceptors(api.Message{Kind: api.Prepare, Group: group, Ballot: ballot})
+}
+
+// leave gives up the attempt to have a vote chosen, if there is one.
+func (s *Server) leave(group string) {
+	s.promises.Drop(s.rescues.Get(group).ballot)
+	s.rescues.Drop(group)
 }
 
 // notePromised: an acceptor has promised a ballot for a vote that this server tries to have chosen: the next attempt has a greater one.

@@ -436,13 +436,15 @@ func TestRescueProposes(t *testing.T) {
 func TestRescueEnds(t *testing.T) {
 	r := leads(t, "put 4 1 0 1", "prepare 4 3")
 	r.ticks(seekTicks)
+	r.take(vote(api.Promise, 0, "v4.0", 131, ""))
+	r.take(vote(api.Promise, 0, "v4.1", 195, ""))
 	for _, group := range []string{"v4.0", "v4.1"} {
 		r.take(vote(api.Accepted, 0, group, 0, "P"))
 		r.take(vote(api.Accepted, 1, group, 0, "P"))
 	}
 	r.sent = nil
 	r.ticks(3 * againTicks)
-	if got := r.only("prepare"); len(got) > 0 || len(r.s.rescues.Keys())+len(r.s.seeks.Keys())+len(r.s.votes.Keys()) > 0 {
+	if got := r.only("prepare"); len(got) > 0 || len(r.s.rescues.Keys())+len(r.s.seeks.Keys())+len(r.s.votes.Keys()) > 0 || r.s.promises.Has(131, 0) || r.s.promises.Has(195, 0) {
 		t.Errorf("P22: the outcome is found, and it looks on: %q", got)
 	}
 }

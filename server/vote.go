@@ -15,6 +15,14 @@ type ballots struct {
 	chosen [api.MaxShards]string // by shard; empty, as long as it is not known
 }
 
+// pursue is what a leader does for a transaction that is prepared: it votes, and seeks the outcome, if it does not know it.
+func (t turn) pursue(tx int) {
+	if !t.outcomes.Has(tx) {
+		t.seek(tx, t.shard.Shards(tx))
+		t.castVote(tx)
+	}
+}
+
 // castVote asks the acceptors to accept the shard's vote by the ballot 0. As the log tells the vote, both servers cast the same, whenever they do.
 func (t turn) castVote(tx int) {
 	if vote := t.shard.Vote(tx); vote != "" {
@@ -33,7 +41,7 @@ func (t turn) count(m api.Message, tx, number int) {
 		return
 	}
 	b.chosen[number] = m.Value
-	t.rescues.Drop(m.Group)
+	t.leave(m.Group)
 	t.judge(tx)
 }
 
@@ -63,7 +71,7 @@ func (t turn) find(tx, outcome int) {
 	t.votes.Drop(tx)
 	t.seeks.Drop(tx)
 	for number := range t.config.Shards {
-		t.rescues.Drop(plan.VoteGroup(tx, number))
+		t.leave(plan.VoteGroup(tx, number))
 	}
 	if t.role == leading {
 		t.tellOutcome(tx)
