@@ -310,6 +310,15 @@ func TestVotesAheadOfTheLog(t *testing.T) {
 		t.Errorf("P21: all votes are known, and the outcome is %v", got)
 	}
 	r.holds("P18: who follows tells nobody")
+	r.ticks(5)
+	r.sent = nil
+	r.take(promise(0, 67))
+	r.take(promise(1, 67))
+	r.holds("P22: who leads then ends it, and seeks nothing", "beat>4 s0 67 #2", "accept s0 67 #2 end 4 6")
+	r.ticks(seekTicks)
+	if got := r.only("prepare"); len(got) > 0 {
+		t.Errorf("P22: the outcome is known, and it asks for %q", got)
+	}
 }
 
 // Orders of a transaction whose outcome is found come into the log no more.
